@@ -1,0 +1,1 @@
+"""Chosenlast: values that are chosen after they were used."""

@@ -1,0 +1,63 @@
+"""The definitions of the document, put into code once more and in another way, to compare with."""
+
+import itertools
+
+
+def pairs_of(table):
+    items, rows = table
+    return sorted({pair for row in rows for pair in zip(items, row)})
+
+
+def alive(table, struck):
+    items, rows = table
+    return tuple(row for row in rows if not set(zip(items, row)) & set(struck))
+
+
+def dead(table, struck):
+    items, _ = table
+    living = {pair for row in alive(table, struck) for pair in zip(items, row)}
+    return tuple(pair for pair in pairs_of(table) if pair not in living)
+
+
+def answer(table, row, item, chosen):
+    return "yes" if dict(zip(table[0], row))[item] in chosen else "no"
+
+
+def strikes(table, item, chosen, word):
+    return tuple(p for p in pairs_of(table) if p[0] == item and (p[1] in chosen) == (word == "no"))
+
+
+def state(table, struck, item, chosen):
+    words = sorted({answer(table, row, item, chosen) for row in alive(table, struck)})
+    if len(words) == 2:
+        return "open"
+    return words[0] if words else "none"
+
+
+def questions(table):
+    """Return all questions about the table."""
+    found = []
+    for item in table[0]:
+        names = [name for other, name in pairs_of(table) if other == item]
+        for size in range(len(names) + 1):
+            found.extend((item, chosen) for chosen in itertools.combinations(names, size))
+    return found
+
+
+def accepts_answer(table, struck, item, chosen, thing):
+    """Whether a value is an answer paper, by the words of point 13 alone."""
+    items, rows = table
+
+    def explains(row, reason):
+        return reason is not None and reason in set(struck) & set(zip(items, row))
+
+    if thing[0] == "forced":
+        _, word, shown, reasons = thing
+        return (shown in alive(table, struck) and answer(table, shown, item, chosen) == word
+                and len(reasons) == len(rows)
+                and all(reason is None if answer(table, row, item, chosen) == word else explains(row, reason)
+                        for row, reason in zip(rows, reasons)))
+    if thing[0] == "open":
+        return all(row in alive(table, struck) and answer(table, row, item, chosen) == word
+                   for row, word in zip(thing[1:], ("yes", "no")))
+    return len(thing[1]) == len(rows) and all(map(explains, rows, thing[1]))

@@ -1,0 +1,140 @@
+"""Points 2 and 9: names, parameters and files of the interface; what holds for every call."""
+
+import importlib
+import inspect
+import unittest
+
+from chosenlast.errors import ChosenError
+from tests.values import ANY_VALUES, COINS, SMALL_TABLES, TABLE, WIDE, copied, full_table, same
+
+# Each file of the interface with its functions and their parameters.
+FUNCTIONS = {
+    "kinds": {
+        "is_number": "thing", "is_name": "thing", "is_pair": "thing", "is_scope": "thing", "is_coin": "thing",
+        "are_coins": "thing", "is_answer": "thing", "is_table_shape": "thing"},
+    "tablechecker": {"lets_table": "thing"},
+    "tables": {"candidates_of": "table item", "pairs_of": "table", "pairs_in": "table row"},
+    "striking": {
+        "alive_rows": "table struck", "dead_pairs": "table struck", "does_break": "table struck pairs"},
+    "questions": {
+        "answer_in": "table row item chosen", "struck_by": "table item chosen answer",
+        "paid_by": "table struck item chosen answer", "forced_answer": "table struck item chosen"},
+    "answerpapers": {"answer_paper": "table struck item chosen"},
+}
+
+BIG, SMALL, MON = ("room", "big"), ("room", "small"), ("time", "mon")
+UNKNOWN = ("room", "mon")
+
+# Values for each parameter, wrong ones among them where a point names an error for them.
+SAMPLES = {
+    "table": (TABLE,),
+    "struck": ((), (BIG,), (BIG, SMALL), (UNKNOWN,)),
+    "pairs": ((), (BIG, SMALL), (MON,), (BIG, UNKNOWN)),
+    "item": ("room", "time", "year"),
+    "chosen": ((), ("big",), ("mon", "wed")),
+    "answer": ("yes", "no"),
+    "row": TABLE[1],
+    "thing": (*ANY_VALUES, *SMALL_TABLES, WIDE, full_table(4, 5, 24), COINS, BIG, (BIG, MON)),
+}
+
+
+def module_of(file):
+    return importlib.import_module("chosenlast." + file)
+
+
+def functions():
+    """Yield each function of the interface with the names of its parameters."""
+    for file, listed in FUNCTIONS.items():
+        for name, parameters in listed.items():
+            yield getattr(module_of(file), name), parameters.split()
+
+
+def sample_calls(parameters):
+    """Return many tuples of arguments for the parameters."""
+    calls = [()]
+    for parameter in parameters:
+        calls = [(*call, thing) for call in calls for thing in SAMPLES[parameter]]
+    return calls
+
+
+def outcome(function, *arguments, **named):
+    """Return what the call returns, or its error with its fields."""
+    try:
+        return ("returned", function(*arguments, **named))
+    except ChosenError as error:
+        return ("raised", type(error).__name__, tuple(sorted(vars(error).items())))
+
+
+class InterfaceTests(unittest.TestCase):
+
+    def test_files_and_parameters(self):
+        for file, listed in FUNCTIONS.items():
+            module = module_of(file)
+            for name, parameters in listed.items():
+                function = getattr(module, name)
+                self.assertTrue(inspect.isfunction(function), name)
+                self.assertEqual(function.__module__, "chosenlast." + file)
+                found = inspect.signature(function).parameters.values()
+                self.assertEqual([parameter.name for parameter in found], parameters.split(), name)
+                for parameter in found:
+                    self.assertIs(parameter.kind, inspect.Parameter.POSITIONAL_OR_KEYWORD)
+                    self.assertIs(parameter.default, inspect.Parameter.empty)
+
+    def test_errors_are_defined_in_their_file(self):
+        found = [name for name, thing in vars(module_of("errors")).items() if inspect.isclass(thing)]
+        self.assertEqual(found, [
+            "ChosenError", "PaperError", "TableError", "StepError", "TextError", "InvalidPaper", "UnknownName",
+            "UnknownPair", "InvalidStep", "NothingToUndo", "InvalidText", "InvalidRow"])
+        for name in found:
+            self.assertEqual(getattr(module_of("errors"), name).__module__, "chosenlast.errors")
+
+    def test_by_position_and_by_name(self):
+        for function, parameters in functions():
+            for call in sample_calls(parameters):
+                expected = outcome(function, *call)
+                named = dict(zip(reversed(parameters), reversed(call)))
+                self.assertTrue(same(outcome(function, **named), expected), (function, call))
+                mixed = dict(zip(parameters[1:], call[1:]))
+                self.assertTrue(same(outcome(function, call[0], **mixed), expected), (function, call))
+
+    def test_arguments_are_not_changed(self):
+        for function, parameters in functions():
+            for call in sample_calls(parameters):
+                kept = copied(call)
+                outcome(function, *call)
+                self.assertTrue(same(call, kept), (function, kept))
+
+    def test_results_do_not_depend_on_the_objects_or_on_earlier_calls(self):
+        for function, parameters in functions():
+            calls = sample_calls(parameters)
+            first = [outcome(function, *call) for call in calls]
+            again = [outcome(function, *copied(call)) for call in reversed(calls)]
+            self.assertTrue(same(first, list(reversed(again))), function)
+
+    def test_kinds_of_results(self):
+        for function, parameters in functions():
+            for call in sample_calls(parameters):
+                result = outcome(function, *call)
+                self.check_kinds(result)
+                if result[0] == "returned" and isinstance(result[1], tuple) and result[1]:
+                    self.assertFalse(any(result[1] is thing for thing in call), (function, call))
+                if result[0] == "returned" and function.__name__.startswith(("is_", "are_", "does_")):
+                    self.assertIs(type(result[1]), bool)
+
+    def check_kinds(self, thing):
+        self.assertIn(type(thing), (tuple, str, int, bool, type(None)))
+        if type(thing) is tuple:
+            for element in thing:
+                self.check_kinds(element)
+
+    def test_missing_and_surplus_arguments(self):
+        for function, parameters in functions():
+            call = sample_calls(parameters)[0]
+            with self.assertRaises(TypeError):
+                function(*call[1:])
+            with self.assertRaises(TypeError):
+                function(*call, ())
+
+
+if __name__ == "__main__":
+    unittest.main()
