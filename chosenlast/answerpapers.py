@@ -1,6 +1,6 @@
 """Papers that show the state of a question."""
 
-from chosenlast.questions import answer_in, forced_answer
+from chosenlast.questions import answer_at, forced_answer
 from chosenlast.striking import alive_rows
 from chosenlast.tables import pairs_in
 
@@ -13,9 +13,10 @@ def answer_paper(table, struck, item, chosen):
     if state == "open":
         yes_row = alive_row_with(table, struck, item, chosen, "yes")
         return ("open", yes_row, alive_row_with(table, struck, item, chosen, "no"))
+    place = table[0].index(item)
     reasons = []
     for row in table[1]:
-        if answer_in(table, row, item, chosen) == state:
+        if answer_at(row, place, chosen) == state:
             reasons.append(None)
         else:
             reasons.append(struck_pair_in(table, struck, row))
@@ -24,8 +25,8 @@ def answer_paper(table, struck, item, chosen):
 
 def alive_row_with(table, struck, item, chosen, answer):
     """Return the first alive row in which this is the answer; there must be one."""
-    rows = alive_rows(table, struck)
-    return [row for row in rows if answer_in(table, row, item, chosen) == answer][0]
+    place = table[0].index(item)
+    return [row for row in alive_rows(table, struck) if answer_at(row, place, chosen) == answer][0]
 
 
 def struck_pair_in(table, struck, row):

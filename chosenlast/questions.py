@@ -1,6 +1,6 @@
 """Questions and their answers."""
 
-from chosenlast.guards import require_pairs, require_question
+from chosenlast.guards import require_question
 from chosenlast.striking import alive_rows, dead_pairs
 from chosenlast.tables import candidates_of
 
@@ -8,7 +8,12 @@ from chosenlast.tables import candidates_of
 def answer_in(table, row, item, chosen):
     """Return the answer in the row."""
     require_question(table, item, chosen)
-    if row[table[0].index(item)] in chosen:
+    return answer_at(row, table[0].index(item), chosen)
+
+
+def answer_at(row, place, chosen):
+    """Return the answer in the row to a question about the item at this place."""
+    if row[place] in chosen:
         return "yes"
     return "no"
 
@@ -24,7 +29,6 @@ def struck_by(table, item, chosen, answer):
 def paid_by(table, struck, item, chosen, answer):
     """Return the pairs that the answer strikes and that are not dead yet, ascending."""
     require_question(table, item, chosen)
-    require_pairs(table, struck)
     dead = dead_pairs(table, struck)
     return tuple([pair for pair in struck_by(table, item, chosen, answer) if pair not in dead])
 

@@ -7,7 +7,6 @@ Code that needs more of a rule widens this checker first.
 import ast
 import builtins
 import io
-import sys
 import tokenize
 
 PACKAGE = "chosenlast"
@@ -52,10 +51,10 @@ PARTS = (ast.expr_context, ast.comprehension, ast.keyword, ast.arguments, ast.ar
 class File:
     """One file of the package: its text, its tree, and the faults found in it."""
 
-    def __init__(self, name, text, others):
+    def __init__(self, name, text, trees):
         self.name = name
         self.text = text
-        self.others = others
+        self.trees = trees
         self.faults = []
         self.tree = ast.parse(text)
         self.parents = {child: node for node in ast.walk(self.tree) for child in ast.iter_child_nodes(node)}
@@ -66,6 +65,10 @@ class File:
                          for alias in node.names]
         self.own = self.imported + [
             name for node in self.tree.body for name in bound_at_module_level(node)]
+        everything = [node for tree in trees.values() for node in tree.body]
+        self.callables = {node.name for node in everything if isinstance(node, (ast.FunctionDef, ast.ClassDef))}
+        self.methods = {part.name for node in everything if isinstance(node, ast.ClassDef)
+                        for part in node.body if isinstance(part, ast.FunctionDef)}
 
     def fault(self, rule, node, what):
         self.faults.append(f"{self.name}:{getattr(node, 'lineno', 0)}: {rule}: {what}")
@@ -82,12 +85,13 @@ def bound_at_module_level(node):
 def faults_of(files):
     """Return the faults of a package, given as a dict from file names to texts."""
     faults = []
+    trees = {name: ast.parse(text) for name, text in files.items()}
     for name, text in files.items():
-        file = File(name, text, files)
+        file = File(name, text, trees)
         for check in (check_name, check_text, check_tokens, check_top, check_imports, check_nodes, check_functions):
             check(file)
         faults.extend(file.faults)
-    return faults + circles(files)
+    return faults + circles(trees)
 
 
 def check_name(file):
@@ -96,7 +100,7 @@ def check_name(file):
         file.fault("L1", None, "the file's name is not plain and lower-case")
     if stem in BARRED_FILES | BARRED_NAMES | BARRED_WORDS or stem.startswith(("law_", "test_")) or stem in dir(builtins):
         file.fault("L14", None, "a barred file name")
-    if len(file.others) > 100:
+    if len(file.trees) > 100:
         file.fault("L14", None, "too many files")
 
 
@@ -166,11 +170,11 @@ def check_imports(file):
             file.fault("L2", node, "import of a module")
         if isinstance(node, ast.ImportFrom):
             stem = (node.module or "").removeprefix(PACKAGE + ".")
-            text = file.others.get(stem + ".py")
-            if node.level or node.module != f"{PACKAGE}.{stem}" or text is None:
+            tree = file.trees.get(stem + ".py")
+            if node.level or node.module != f"{PACKAGE}.{stem}" or tree is None:
                 file.fault("L2", node, "an import from elsewhere")
                 continue
-            defined = [name for other in ast.parse(text).body for name in bound_at_module_level(other)]
+            defined = [name for other in tree.body for name in bound_at_module_level(other)]
             for alias in node.names:
                 if alias.asname or alias.name not in defined:
                     file.fault("L16", node, f"{alias.name} is renamed, or not defined there")
@@ -179,14 +183,14 @@ def check_imports(file):
                     file.fault("L2", node, f"{alias.name} is not used")
 
 
-def circles(files):
+def circles(trees):
     """Return a fault for each file that imports from itself through other files."""
     imports = {
-        name: {node.module.split(".")[-1] + ".py" for node in ast.walk(ast.parse(text))
+        name: {node.module.split(".")[-1] + ".py" for node in ast.walk(tree)
                if isinstance(node, ast.ImportFrom) and node.module}
-        for name, text in files.items()}
+        for name, tree in trees.items()}
     faults = []
-    for name in files:
+    for name in trees:
         seen, further = set(), imports[name]
         while further - seen:
             seen |= further
@@ -342,7 +346,7 @@ def check_constant(file, node):
 def check_call(file, node):
     named = [keyword.arg for keyword in node.keywords]
     if isinstance(node.func, ast.Attribute):
-        if node.func.attr not in METHODS | methods_of(file):
+        if node.func.attr not in METHODS | file.methods:
             file.fault("L25", node, "a method that is not used: " + node.func.attr)
         if node.func.attr in METHODS and named:
             file.fault("L25", node, "a keyword with a method of a builtin value")
@@ -355,12 +359,6 @@ def check_call(file, node):
         file.fault("L7", node, "a call of something else than a name or an attribute")
     if any(isinstance(part, ast.Starred) for part in node.args) or None in named:
         file.fault("L7", node, "a call with a star")
-
-
-def methods_of(file):
-    """Return the names of the methods of the package."""
-    return {part.name for text in file.others.values() for node in ast.walk(ast.parse(text))
-            if isinstance(node, ast.ClassDef) for part in node.body if isinstance(part, ast.FunctionDef)}
 
 
 def check_builtin_call(file, node, named):
@@ -444,19 +442,10 @@ def check_dict(file, node):
 
 
 def check_functions(file):
-    """A function used as a value, or a class that is passed on, is not looked for further: both are not used."""
+    """Own functions and classes are called, derived from or a key=; nothing else happens to them."""
     for node in ast.walk(file.tree):
-        if isinstance(node, ast.Name) and isinstance(node.ctx, ast.Load) and node.id in classes_and_functions(file):
+        if isinstance(node, ast.Name) and isinstance(node.ctx, ast.Load) and node.id in file.callables & set(file.own):
             parent = file.parents[node]
             called = isinstance(parent, ast.Call) and parent.func is node
             if not called and not isinstance(parent, (ast.ClassDef, ast.keyword)):
                 file.fault("L18", node, "a function or class that is not called: " + node.id)
-
-
-def classes_and_functions(file):
-    return [node.name for text in file.others.values() for node in ast.parse(text).body
-            if isinstance(node, (ast.FunctionDef, ast.ClassDef)) and node.name in file.own]
-
-
-if __name__ == "__main__":
-    sys.exit("run the tests instead: python3 -m unittest discover -s tests -t .")

@@ -61,3 +61,38 @@ def accepts_answer(table, struck, item, chosen, thing):
         return all(row in alive(table, struck) and answer(table, row, item, chosen) == word
                    for row, word in zip(thing[1:], ("yes", "no")))
     return len(thing[1]) == len(rows) and all(map(explains, rows, thing[1]))
+
+
+def pays(coins, pairs):
+    """Return whether each of the pairs can have a coin of its own, by trying all coins for the first pair."""
+    if not pairs:
+        return True
+    return any(pairs[0] in coins[k][1] and pays(coins[:k] + coins[k + 1:], pairs[1:]) for k in range(len(coins)))
+
+
+def breaks(table, struck, pairs):
+    return alive(table, (*struck, *pairs)) == ()
+
+
+def least_breakings(table, struck):
+    pairs = pairs_of(table)
+    for size in range(len(pairs) + 1):
+        found = tuple(some for some in itertools.combinations(pairs, size) if breaks(table, struck, some))
+        if found:
+            return found
+    return None
+
+
+def safe(table, struck, coins):
+    """Return whether no pairs of the table that the coins can pay break it, by trying all pairs."""
+    pairs = pairs_of(table)
+    return not any(breaks(table, struck, some) and pays(coins, some)
+                   for size in range(min(len(coins), len(pairs)) + 1)
+                   for some in itertools.combinations(pairs, size))
+
+
+def widest(table, struck, coins):
+    """Return the widest scope, by adding one coin of each single pair."""
+    if not safe(table, struck, coins):
+        return None
+    return tuple(pair for pair in pairs_of(table) if safe(table, struck, (*coins, (10 ** 9, (pair,)))))

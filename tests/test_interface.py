@@ -20,6 +20,14 @@ FUNCTIONS = {
         "answer_in": "table row item chosen", "struck_by": "table item chosen answer",
         "paid_by": "table struck item chosen answer", "forced_answer": "table struck item chosen"},
     "answerpapers": {"answer_paper": "table struck item chosen"},
+    "answerchecker": {"lets_answer": "table struck item chosen thing"},
+    "tabletexts": {"table_text": "table", "scope_text": "scope", "coin_text": "coin"},
+    "tablereadings": {"read_table": "text", "read_scope": "text", "read_coin": "text"},
+    "paying": {"coins_for": "coins pairs"},
+    "paypapers": {"pay_paper": "coins pairs"},
+    "paychecker": {"lets_pay": "coins pairs thing"},
+    "breaking": {"breaking_number": "table struck", "least_breakings": "table struck"},
+    "safety": {"is_safe": "table struck coins", "widest_scope": "table struck coins"},
 }
 
 BIG, SMALL, MON = ("room", "big"), ("room", "small"), ("time", "mon")
@@ -34,7 +42,15 @@ SAMPLES = {
     "chosen": ((), ("big",), ("mon", "wed")),
     "answer": ("yes", "no"),
     "row": TABLE[1],
-    "thing": (*ANY_VALUES, *SMALL_TABLES, WIDE, full_table(4, 5, 24), COINS, BIG, (BIG, MON)),
+    "scope": ((), (BIG,), (BIG, MON)),
+    "coin": ((0, ()), (12, (BIG, MON))),
+    "coins": ((), COINS, ((2, (BIG,)), (3, (BIG, SMALL, MON)), (7, ())), ((0, (UNKNOWN,)),)),
+    "text": ("", "-", "\n", "items a\nrow x\nrow y", "items a\nrow x\n", "a:b", "a:b,a:a", "3=a:b,c:d", "3", "3=,"),
+    "thing": (*ANY_VALUES, *SMALL_TABLES, WIDE, full_table(4, 5, 24), COINS, BIG, (BIG, MON),
+              ("none", (BIG, BIG, SMALL, SMALL)), ("none", (BIG,)), ("open", ("big", "mon"), ("small", "wed")),
+              ("open", ("big", "mon"), ("small", "mon")), ("forced", "no", ("small", "mon"), (BIG, BIG, None, None)),
+              ("forced", "yes", ("small", "mon"), (None,) * 4), ("paid", ()), ("paid", (1, 0)), ("paid", (1,)),
+              ("few", (BIG,)), ("few", (BIG, SMALL)), ("few", ())),
 }
 
 
@@ -126,6 +142,17 @@ class InterfaceTests(unittest.TestCase):
         if type(thing) is tuple:
             for element in thing:
                 self.check_kinds(element)
+
+    def test_names_that_end_in_paper(self):
+        """A paper that such a function returns is accepted by its checker, also after it was copied."""
+        for maker, checker in (("answerpapers.answer_paper", "answerchecker.lets_answer"),
+                               ("paypapers.pay_paper", "paychecker.lets_pay")):
+            made = getattr(module_of(maker.split(".")[0]), maker.split(".")[1])
+            lets = getattr(module_of(checker.split(".")[0]), checker.split(".")[1])
+            for call in sample_calls(list(inspect.signature(made).parameters)):
+                result = outcome(made, *call)
+                if result[0] == "returned":
+                    self.assertEqual(outcome(lets, *call, copied(result[1]))[0], "returned")
 
     def test_missing_and_surplus_arguments(self):
         for function, parameters in functions():
