@@ -1,7 +1,8 @@
-"""The form of the package's code: a subset of the rules of LANGUAGE.md, narrower than they are.
+"""The form of the package's code: what can be seen mechanically of the rules L1 to L28 of LANGUAGE.md.
 
-What the package does not use is refused here even where a rule would allow it under conditions.
-Code that needs more of a rule widens this checker first.
+What the package does not use is refused here even where a rule would allow it under conditions; code that needs more
+of a rule widens this checker first. Not seen here, and to be read for: how deep a recursion goes (L11), of which kind
+the keys of a dict and the members of a set are (L24), and names that comprehensions share with what is around (L7).
 """
 
 import ast
