@@ -7,29 +7,33 @@ from chosenlast.tables import pairs_of
 
 def is_safe(table, struck, coins):
     """Return whether no distinct pairs that can be paid with the coins break the table."""
-    return not can_hit(rows_to_hit(table, struck), scopes_of(coins))
+    return payment_that_hits(rows_to_hit(table, struck), scopes_of(coins)) is None
 
 
 def widest_scope(table, struck, coins):
     """Return the pairs that the scope of one more coin may contain; None if the coins are unsafe."""
     rows = rows_to_hit(table, struck)
     scopes = scopes_of(coins)
-    if can_hit(rows, scopes):
+    if payment_that_hits(rows, scopes) is not None:
         return None
-    return tuple([pair for pair in pairs_of(table) if not can_hit(rows, [*scopes, (pair,)])])
+    return tuple([pair for pair in pairs_of(table) if payment_that_hits(rows, [*scopes, (pair,)]) is None])
 
 
-def can_hit(rows, scopes):
-    """Whether pairs that can be paid with coins of these scopes hit all rows."""
+def payment_that_hits(rows, scopes):
+    """Return an assignment of coins of these scopes to pairs that hit all rows, or None if there is none.
+
+    Its pairs are as few as possible; so without any one of them, some row is missed.
+    """
     # Other pairs are of no use. A row with few useful pairs leaves few ways to go on; it comes first.
     useful = [tuple([pair for pair in row if any([pair in scope for scope in scopes])]) for row in rows]
     useful = sorted(useful, key=len)
     tries = {(): {}}
     while tries:
-        if any([first_missed(useful, pairs) is None for pairs in tries]):
-            return True
+        for pairs in tries:
+            if first_missed(useful, pairs) is None:
+                return tries[pairs]
         tries = longer_payments(useful, scopes, tries)
-    return False
+    return None
 
 
 def longer_payments(rows, scopes, tries):

@@ -34,11 +34,13 @@ BARRED_BEGINNINGS = (
 BARRED_WORDS = {
     "type", "typing", "typing_extensions", "enum", "Enum", "IntEnum", "StrEnum", "Flag", "IntFlag", "Generic",
     "Protocol", "ABC", "ABCMeta", "namedtuple", "NamedTuple", "TypedDict", "TYPE_CHECKING", "abstractmethod"}
+# A doctest that ran before leaves a _ among the builtins.
+BUILTINS = set(dir(builtins)) - {"_"}
 BARRED_FILES = {"test", "tests", "testing", "site", "conftest", "sitecustomize", "usercustomize"}
 
 STATEMENTS = (
     ast.Assign, ast.AugAssign, ast.If, ast.While, ast.For, ast.Return, ast.Raise, ast.Break, ast.Continue, ast.Pass,
-    ast.Expr)
+    ast.Expr, ast.Try, ast.ExceptHandler)
 EXPRESSIONS = (
     ast.BoolOp, ast.BinOp, ast.UnaryOp, ast.IfExp, ast.Dict, ast.ListComp, ast.DictComp, ast.Compare, ast.Call,
     ast.Constant, ast.Attribute, ast.Subscript, ast.Name, ast.List, ast.Tuple, ast.Slice, ast.Starred)
@@ -99,7 +101,7 @@ def check_name(file):
     stem = file.name[:-len(".py")]
     if not file.name.endswith(".py") or not all(c in "abcdefghijklmnopqrstuvwxyz0123456789_" for c in stem):
         file.fault("L1", None, "the file's name is not plain and lower-case")
-    if stem in BARRED_FILES | BARRED_NAMES | BARRED_WORDS or stem.startswith(("law_", "test_")) or stem in dir(builtins):
+    if stem in BARRED_FILES | BARRED_NAMES | BARRED_WORDS | BUILTINS or stem.startswith(("law_", "test_")):
         file.fault("L14", None, "a barred file name")
     if len(file.trees) > 100:
         file.fault("L14", None, "too many files")
@@ -235,7 +237,7 @@ def check_identifier(file, node, name):
         file.fault("L12", node, "_ is read")
     bound = (isinstance(node, (ast.arg, ast.ClassDef, ast.FunctionDef))
              or isinstance(node, ast.Name) and isinstance(node.ctx, ast.Store))
-    if bound and name in dir(builtins):
+    if bound and name in BUILTINS:
         file.fault("L15", node, "a builtin's name: " + name)
     local = isinstance(node, ast.arg) or bound and not isinstance(file.parents[node], (ast.Module, ast.Assign))
     inside = enclosing(file, node, ast.FunctionDef) is not None
@@ -293,6 +295,11 @@ def check_statement(file, node):
             file.fault("L19", node, "an error that is not created on the spot")
         elif made.func.id not in file.own:
             file.fault("L19", node, "an error that is not an own one")
+    if isinstance(node, ast.Try) and (node.finalbody or node.orelse):
+        file.fault("L6", node, "a try with more than handlers")
+    if isinstance(node, ast.ExceptHandler):
+        if node.name or not isinstance(node.type, ast.Name) or node.type.id not in file.own:
+            file.fault("L19", node, "a handler of something else than an own error, or one that names it")
     if isinstance(node, ast.AugAssign) and not isinstance(node.target, ast.Name):
         file.fault("L6", node, "an augmented assignment to no plain name")
     if isinstance(node, ast.For):
@@ -443,10 +450,10 @@ def check_dict(file, node):
 
 
 def check_functions(file):
-    """Own functions and classes are called, derived from or a key=; nothing else happens to them."""
+    """Own functions and classes are called, derived from, caught or a key=; nothing else happens to them."""
     for node in ast.walk(file.tree):
         if isinstance(node, ast.Name) and isinstance(node.ctx, ast.Load) and node.id in file.callables & set(file.own):
             parent = file.parents[node]
             called = isinstance(parent, ast.Call) and parent.func is node
-            if not called and not isinstance(parent, (ast.ClassDef, ast.keyword)):
+            if not called and not isinstance(parent, (ast.ClassDef, ast.keyword, ast.ExceptHandler)):
                 file.fault("L18", node, "a function or class that is not called: " + node.id)

@@ -96,3 +96,61 @@ def widest(table, struck, coins):
     if not safe(table, struck, coins):
         return None
     return tuple(pair for pair in pairs_of(table) if safe(table, struck, (*coins, (10 ** 9, (pair,)))))
+
+
+def home_sets(table, struck, coins, coin):
+    """Return the home sets, by trying all sets of numbers."""
+    def is_enough(numbers):
+        return safe(table, struck, (*(other for other in coins if other[0] not in numbers), coin))
+
+    every = [other[0] for other in coins]
+    enough = [set(some) for size in range(len(every) + 1) for some in itertools.combinations(every, size)
+              if is_enough(some)]
+    return tuple(sorted(tuple(sorted(some)) for some in enough if not any(other < some for other in enough)))
+
+
+def walks(program):
+    """Return a dict from all paths, complete or not, to (output, next question, program after, asked)."""
+    words, rest = (), program
+    while rest[0] == "say":
+        words, rest = (*words, rest[1]), rest[2]
+    if rest[0] == "stop":
+        return {(): (words, None, program, ())}
+    _, item, chosen, *inner = rest
+    found = {(): (words, (item, chosen), program, ())}
+    for word, follows in zip(("yes", "no"), inner):
+        for path, (output, question, after, asked) in walks(follows).items():
+            found[(word, *path)] = (words + output, question, after, ((item, chosen, word), *asked))
+    return found
+
+
+def complete_paths(program):
+    return sorted(path for path, (_, question, _, _) in walks(program).items() if question is None)
+
+
+def path_strikes(table, program, path):
+    return [pair for asked in walks(program)[path][3] for pair in strikes(table, *asked)]
+
+
+def is_consistent(table, struck, program, path):
+    return alive(table, (*struck, *path_strikes(table, program, path))) != ()
+
+
+def paid(table, struck, program, path):
+    """Return the paid pairs of a path, by the words of points 4 and 6."""
+    found, struck = [], list(struck)
+    for asked in walks(program)[path][3]:
+        found += [pair for pair in strikes(table, *asked) if pair not in dead(table, struck)]
+        struck += strikes(table, *asked)
+    assert len(found) == len(set(found))
+    return tuple(sorted(found))
+
+
+def is_open(table, struck, coins, program, path):
+    return is_consistent(table, struck, program, path) and pays(coins, paid(table, struck, program, path))
+
+
+def least_bills(table, struck, program, output):
+    bills = {paid(table, struck, program, path) for path in complete_paths(program)
+             if walks(program)[path][0] == output and is_consistent(table, struck, program, path)}
+    return tuple(sorted(bill for bill in bills if not any(set(other) < set(bill) for other in bills)))

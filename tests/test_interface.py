@@ -2,12 +2,12 @@
 
 import importlib
 import inspect
+import math
 import unittest
 
-from chosenlast.errors import ChosenError
-from tests.values import ANY_VALUES, COINS, SMALL_TABLES, TABLE, WIDE, copied, full_table, same
+from tests.values import ANY_VALUES, COINS, PROGRAM, SMALL_TABLES, TABLE, WIDE, copied, full_table, outcome, same
 
-# Each file of the interface with its functions and their parameters.
+# Each file of the interface with its functions and their parameters; behind a * stands one that is passed by name.
 FUNCTIONS = {
     "kinds": {
         "is_number": "thing", "is_name": "thing", "is_pair": "thing", "is_scope": "thing", "is_coin": "thing",
@@ -28,10 +28,39 @@ FUNCTIONS = {
     "paychecker": {"lets_pay": "coins pairs thing"},
     "breaking": {"breaking_number": "table struck", "least_breakings": "table struck"},
     "safety": {"is_safe": "table struck coins", "widest_scope": "table struck coins"},
+    "safetypapers": {"safety_paper": "table struck coins"},
+    "safetychecker": {"lets_safety": "table struck coins thing"},
+    "homes": {"home_sets": "table struck coins coin", "fewest_home": "table struck coins coin"},
+    "homepapers": {"home_paper": "table struck coins coin"},
+    "homechecker": {"lets_home": "table struck coins coin thing"},
+    "fewestpapers": {"fewest_paper": "table struck coins coin size"},
+    "fewestchecker": {"lets_fewest": "table struck coins coin size thing"},
+    "programchecker": {"lets_program": "table thing"},
+    "programs": {
+        "is_path": "program thing", "paths_of": "program", "output_of": "program path",
+        "next_question": "program path", "program_after": "program path"},
+    "running": {"run_on": "table row program", "agrees": "table row program path"},
+    "reaching": {
+        "paid_on": "table struck program path", "can_lead": "table struck coins program path",
+        "paths_open": "table struck coins program", "outputs_open": "table struck coins program",
+        "least_coins": "table struck program output", "bills_of": "table struck program output"},
+    "reachpapers": {"reach_paper": "table struck coins program output"},
+    "reachchecker": {"lets_reach": "table struck coins program output thing"},
+    "programtexts": {"program_text": "program"},
+    "programreadings": {"program_read": "text *line"},
+    "banks": {
+        "first_bank": "", "issue": "table bank scope", "report": "table bank number pair",
+        "take_back": "bank number", "call": "bank", "choose": "table bank row"},
 }
+DEFAULTS = {"line": 0}
 
 BIG, SMALL, MON = ("room", "big"), ("room", "small"), ("time", "mon")
 UNKNOWN = ("room", "mon")
+
+SAFE = ("safe", (("small", "wed"), (("few", (SMALL,)), ("few", (("time", "wed"),)))))
+UNSAFE = ("unsafe", (BIG, SMALL), (2, 3), (("big", "mon"), ("small", "mon")))
+HOME = ((2,), SAFE[1], (UNSAFE,))
+FEWEST = (UNSAFE, ())
 
 # Values for each parameter, wrong ones among them where a point names an error for them.
 SAMPLES = {
@@ -43,15 +72,28 @@ SAMPLES = {
     "answer": ("yes", "no"),
     "row": TABLE[1],
     "scope": ((), (BIG,), (BIG, MON)),
-    "coin": ((0, ()), (12, (BIG, MON))),
+    "coin": ((12, (BIG, MON)), (1000, ())),
     "coins": ((), COINS, ((2, (BIG,)), (3, (BIG, SMALL, MON)), (7, ())), ((0, (UNKNOWN,)),)),
-    "text": ("", "-", "\n", "items a\nrow x\nrow y", "items a\nrow x\n", "a:b", "a:b,a:a", "3=a:b,c:d", "3", "3=,"),
+    "size": (1, 2),
+    "program": (PROGRAM, ("say", "a", PROGRAM)),
+    "path": ((), ("yes",), ("no",), ("yes", "no")),
+    "output": ((), ("large",), ("a", "large", "early")),
+    "bank": (((), (), 0, False, None), ((), COINS, 2, False, None), ((), COINS, 2, True, None),
+             ((BIG,), (), 7, True, None), ((), (), 7, True, ("big", "mon"))),
+    "number": (0, 1, 2),
+    "pair": (BIG, MON, UNKNOWN),
+    "line": (0, 12),
+    "text": ("", "-", "\n", "items a\nrow x\nrow y", "items a\nrow x\n", "a:b", "a:b,a:a", "3=a:b,c:d", "3", "3=,",
+             "stop", "say a", "ask a b,c say x stop stop"),
     "thing": (*ANY_VALUES, *SMALL_TABLES, WIDE, full_table(4, 5, 24), COINS, BIG, (BIG, MON),
               ("none", (BIG, BIG, SMALL, SMALL)), ("none", (BIG,)), ("open", ("big", "mon"), ("small", "wed")),
               ("open", ("big", "mon"), ("small", "mon")), ("forced", "no", ("small", "mon"), (BIG, BIG, None, None)),
               ("forced", "yes", ("small", "mon"), (None,) * 4), ("paid", ()), ("paid", (1, 0)), ("paid", (1,)),
-              ("few", (BIG,)), ("few", (BIG, SMALL)), ("few", ())),
+              ("few", (BIG,)), ("few", (BIG, SMALL)), ("few", ()), ("unsafe", (), (), ()), SAFE, UNSAFE, HOME, FEWEST,
+              PROGRAM, ("can", ("no",), (0,)), ("cannot", (("few", (SMALL,)),)), ("cannot", ())),
 }
+# So many calls of a function are enough; they are spread evenly over all that there are.
+MOST_CALLS = 2000
 
 
 def module_of(file):
@@ -59,26 +101,28 @@ def module_of(file):
 
 
 def functions():
-    """Yield each function of the interface with the names of its parameters."""
+    """Yield each function of the interface with the names of its parameters that may be passed by position."""
     for file, listed in FUNCTIONS.items():
         for name, parameters in listed.items():
-            yield getattr(module_of(file), name), parameters.split()
+            yield getattr(module_of(file), name), [word for word in parameters.split() if word[0] != "*"]
 
 
 def sample_calls(parameters):
     """Return many tuples of arguments for the parameters."""
-    calls = [()]
-    for parameter in parameters:
-        calls = [(*call, thing) for call in calls for thing in SAMPLES[parameter]]
+    choices = [SAMPLES[parameter] for parameter in parameters]
+    count = math.prod(map(len, choices))
+    step = max(1, count // MOST_CALLS)
+    while math.gcd(step, count) > 1:
+        # Otherwise the calls would have only some of the values of a parameter.
+        step += 1
+    calls = []
+    for k in range(0, count, step):
+        call = []
+        for things in reversed(choices):
+            k, at = divmod(k, len(things))
+            call.insert(0, things[at])
+        calls.append(tuple(call))
     return calls
-
-
-def outcome(function, *arguments, **named):
-    """Return what the call returns, or its error with its fields."""
-    try:
-        return ("returned", function(*arguments, **named))
-    except ChosenError as error:
-        return ("raised", type(error).__name__, tuple(sorted(vars(error).items())))
 
 
 class InterfaceTests(unittest.TestCase):
@@ -91,10 +135,13 @@ class InterfaceTests(unittest.TestCase):
                 self.assertTrue(inspect.isfunction(function), name)
                 self.assertEqual(function.__module__, "chosenlast." + file)
                 found = inspect.signature(function).parameters.values()
-                self.assertEqual([parameter.name for parameter in found], parameters.split(), name)
-                for parameter in found:
-                    self.assertIs(parameter.kind, inspect.Parameter.POSITIONAL_OR_KEYWORD)
-                    self.assertIs(parameter.default, inspect.Parameter.empty)
+                self.assertEqual([parameter.name for parameter in found], parameters.replace("*", "").split(), name)
+                for parameter, word in zip(found, parameters.split()):
+                    if word[0] == "*":
+                        expected = (parameter.KEYWORD_ONLY, DEFAULTS[word[1:]])
+                    else:
+                        expected = (parameter.POSITIONAL_OR_KEYWORD, parameter.empty)
+                    self.assertEqual((parameter.kind, parameter.default), expected)
 
     def test_errors_are_defined_in_their_file(self):
         found = [name for name, thing in vars(module_of("errors")).items() if inspect.isclass(thing)]
@@ -111,7 +158,7 @@ class InterfaceTests(unittest.TestCase):
                 named = dict(zip(reversed(parameters), reversed(call)))
                 self.assertTrue(same(outcome(function, **named), expected), (function, call))
                 mixed = dict(zip(parameters[1:], call[1:]))
-                self.assertTrue(same(outcome(function, call[0], **mixed), expected), (function, call))
+                self.assertTrue(same(outcome(function, *call[:1], **mixed), expected), (function, call))
 
     def test_arguments_are_not_changed(self):
         for function, parameters in functions():
@@ -133,8 +180,9 @@ class InterfaceTests(unittest.TestCase):
                 result = outcome(function, *call)
                 self.check_kinds(result)
                 if result[0] == "returned" and isinstance(result[1], tuple) and result[1]:
-                    self.assertFalse(any(result[1] is thing for thing in call), (function, call))
-                if result[0] == "returned" and function.__name__.startswith(("is_", "are_", "does_")):
+                    itself = function.__name__ == "program_after" and call[1] == ()
+                    self.assertIs(any(result[1] is thing for thing in call), itself, (function, call))
+                if result[0] == "returned" and function.__name__.startswith(("is_", "are_", "does_", "can_", "agrees")):
                     self.assertIs(type(result[1]), bool)
 
     def check_kinds(self, thing):
@@ -145,20 +193,21 @@ class InterfaceTests(unittest.TestCase):
 
     def test_names_that_end_in_paper(self):
         """A paper that such a function returns is accepted by its checker, also after it was copied."""
-        for maker, checker in (("answerpapers.answer_paper", "answerchecker.lets_answer"),
-                               ("paypapers.pay_paper", "paychecker.lets_pay")):
+        for word in ("answer", "pay", "safety", "home", "fewest", "reach"):
+            maker, checker = f"{word}papers.{word}_paper", f"{word}checker.lets_{word}"
             made = getattr(module_of(maker.split(".")[0]), maker.split(".")[1])
             lets = getattr(module_of(checker.split(".")[0]), checker.split(".")[1])
             for call in sample_calls(list(inspect.signature(made).parameters)):
                 result = outcome(made, *call)
-                if result[0] == "returned":
+                if result[0] == "returned" and result[1] is not None:
                     self.assertEqual(outcome(lets, *call, copied(result[1]))[0], "returned")
 
     def test_missing_and_surplus_arguments(self):
         for function, parameters in functions():
             call = sample_calls(parameters)[0]
-            with self.assertRaises(TypeError):
-                function(*call[1:])
+            if parameters:
+                with self.assertRaises(TypeError):
+                    function(*call[1:])
             with self.assertRaises(TypeError):
                 function(*call, ())
 

@@ -1,30 +1,19 @@
 """Points 5, 9 and 27: safe coins and the widest scope of one more coin."""
 
-import itertools
 import unittest
 
 from chosenlast.breaking import breaking_number
 from chosenlast.errors import UnknownPair
 from chosenlast.safety import is_safe, widest_scope
 from tests import reference
-from tests.values import COIN_TOSS, COINS, DIAGONAL, SMALL_TABLES, SQUARE, TABLE, WIDE, full_table, same, subsets
+from tests.values import (
+    COIN_TOSS, COINS, DIAGONAL, SMALL_TABLES, SQUARE, TABLE, WIDE, coins_of, full_table, limit_coins, same,
+    sample_coins, subsets)
 
 BIG, SMALL = ("room", "big"), ("room", "small")
 MON, TUE, WED = ("time", "mon"), ("time", "tue"), ("time", "wed")
 ALL_PAIRS = (BIG, SMALL, MON, TUE, WED)
 ODD = ("year", "old")
-
-
-def coins_of(*scopes):
-    """Return coins with these scopes and with numbers that are not the places."""
-    return tuple((3 * k + 2, scope) for k, scope in enumerate(scopes))
-
-
-def sample_coins(table):
-    """Return many coins for a small table."""
-    pairs = reference.pairs_of(table)
-    scopes = ((), tuple(pairs[:1]), tuple(pairs[1:3]), tuple(pairs[::2]), tuple(pairs[-2:]), tuple(pairs))
-    return [coins_of(*chosen) for size in range(4) for chosen in itertools.combinations_with_replacement(scopes, size)]
 
 
 class SafetyTests(unittest.TestCase):
@@ -121,21 +110,16 @@ class SafetyTests(unittest.TestCase):
 
     def test_at_the_limits(self):
         found = set()
-        for table in (full_table(4, 5, 24), full_table(4, 5, 23), full_table(3, 5, 24), full_table(4, 3, 24)):
-            pairs = tuple(reference.pairs_of(table))
-            for scopes in ((pairs,) * 5, (pairs[1:],) * 5, (pairs[:5],) * 5, (pairs[:4],) * 5, (pairs[2:6],) * 5,
-                           [pairs[k::5] for k in range(5)], [pairs[k::4] for k in range(5)],
-                           [pairs[k:k + 3] for k in range(5)], [pairs[k:k + 1] for k in range(5)]):
-                coins = coins_of(*scopes)
-                safe = is_safe(table, (), coins)
-                found.add(safe)
-                self.assertIs(safe, reference.safe(table, (), coins))
-                widest = widest_scope(table, (), coins)
-                self.assertEqual(widest is not None, safe)
-                if safe:
-                    for pair in pairs[::3]:
-                        more = (*coins, (99, (pair,)))
-                        self.assertEqual(pair in widest, is_safe(table, (), more))
+        for table, coins in limit_coins():
+            safe = is_safe(table, (), coins)
+            found.add(safe)
+            self.assertIs(safe, reference.safe(table, (), coins))
+            widest = widest_scope(table, (), coins)
+            self.assertEqual(widest is not None, safe)
+            if safe:
+                for pair in reference.pairs_of(table)[::3]:
+                    more = (*coins, (99, (pair,)))
+                    self.assertEqual(pair in widest, is_safe(table, (), more))
         self.assertEqual(found, {True, False})
 
     def test_at_the_limits_by_trying_all(self):
