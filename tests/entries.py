@@ -3,7 +3,7 @@
 Walks are recursive here, and nodes are given out one by one, so that what is inside a faulty node is never looked at.
 """
 
-from chosenlast.kinds import is_name, is_number, is_pair, is_scope
+from chosenlast.kinds import are_coins, is_name, is_number, is_pair, is_scope
 from tests import reference
 
 SHAPE = ("shape", -1)
@@ -205,4 +205,117 @@ def cannot(table, struck, coins, program_, output, reasons):
                 if pair not in zip(table[0], row) or pair not in (
                         *struck, *reference.path_strikes(table, program_, path)):
                     return ("row", (r, k))
+    return None
+
+
+def is_of(thing, *parts):
+    """Whether the value is a tuple of as many parts, each as its own function says."""
+    return type(thing) is tuple and len(thing) == len(parts) and all(part(x) for part, x in zip(parts, thing))
+
+
+def is_bool(thing):
+    return type(thing) is bool
+
+
+def first_unknown(table, pairs):
+    return next((k for k, pair in enumerate(pairs) if pair not in reference.pairs_of(table)), None)
+
+
+def bank(table, thing):
+    if not is_of(thing, is_scope, are_coins, is_number, is_bool, lambda row: row is None or is_names(row)):
+        return SHAPE
+    reported, outside, following, is_called, row = thing
+    k = first_unknown(table, reported)
+    if k is not None:
+        return ("pair", k)
+    for k, (number, scope) in enumerate(outside):
+        j = first_unknown(table, scope)
+        if j is not None:
+            return ("scope", (k, j))
+        if not number < following:
+            return ("number", k)
+    if not len(reported) <= following - len(outside):
+        return ("many", -1)
+    if not reference.safe(table, reported, outside):
+        return ("unsafe", -1)
+    if row is None or is_called and len(outside) == 0 and row in reference.alive(table, reported):
+        return None
+    return ("row", -1)
+
+
+def office(table, thing):
+    if not is_of(thing, is_scope, are_coins, is_bool):
+        return SHAPE
+    struck, coins, is_called = thing
+    k = first_unknown(table, struck)
+    if k is not None:
+        return ("pair", k)
+    for k, (_, scope) in enumerate(coins):
+        j = first_unknown(table, scope)
+        if j is not None:
+            return ("scope", (k, j))
+    if is_called and coins:
+        return ("called", -1)
+    return None if reference.safe(table, struck, coins) else ("unsafe", -1)
+
+
+def record(table, triples, thing):
+    false = [[k for k, (*asked, word) in enumerate(triples) if reference.answer(table, row, *asked) != word]
+             for row in table[1]]
+    if is_of(thing, lambda word: word == "true", is_names):
+        if thing[1] not in table[1]:
+            return ("row", -1)
+        found = false[table[1].index(thing[1])]
+        return ("entry", found[0]) if found else None
+    if is_of(thing, lambda word: word == "false", lambda indices: is_tuple(indices, is_number)):
+        if len(thing[1]) != len(table[1]):
+            return ("many", -1)
+        return next((("index", k) for k, index in enumerate(thing[1]) if index not in false[k]), None)
+    return SHAPE
+
+
+def case(table, bank_, scope, thing):
+    if not is_tuple(thing, lambda part: is_of(part, is_number, is_pair)):
+        return SHAPE
+    reported, outside, following, is_called, _ = bank_
+    if is_called:
+        return ("called", -1)
+    scopes = {**dict(outside), following: scope}
+    pairs = [pair for _, pair in thing]
+    for k, (number, pair) in enumerate(thing):
+        if k and thing[k - 1][0] >= number or number not in scopes:
+            return ("number", k)
+        if pair not in scopes[number]:
+            return ("scope", k)
+        if pairs.index(pair) < k:
+            return ("pair", k)
+    if not reference.breaks(table, reported, pairs):
+        return ("break", -1)
+    for k, pair in enumerate(pairs):
+        if not any(pair in zip(table[0], row) for row in reference.alive(table,
+                                                                         (*reported, *pairs[:k], *pairs[k + 1:]))):
+            return ("needed", k)
+    return None
+
+
+def audit(world, thing):
+    if not is_of(thing, is_names, lambda strikes: is_tuple(strikes, lambda part: is_tuple(part, is_scope))):
+        return SHAPE
+    row, strikes = thing
+    table, chosen, runs = world.table_now(), world.bank_now()[4], world.runs_now()
+    if row not in table[1]:
+        return ("row", -1)
+    if chosen not in (None, row):
+        return ("choice", -1)
+    if len(strikes) != len(runs):
+        return ("runs", -1)
+    for r, (scopes, (_, program_, path, _)) in enumerate(zip(strikes, runs)):
+        asked = reference.walks(program_)[path][3]
+        if len(scopes) != len(asked):
+            return ("answers", r)
+        for k, (scope, question) in enumerate(zip(scopes, asked)):
+            if scope != reference.strikes(table, *question):
+                return ("struck", (r, k))
+            if set(scope) & set(zip(table[0], row)):
+                return ("holds", (r, k))
     return None
