@@ -9,10 +9,20 @@ INSIDE = {"stop": 0, "say": 1, "ask": 2}
 
 def program_read(text, *, line=0):
     """Return the program that the text writes; raise InvalidText with this line for any other text."""
-    # An empty field never stands; so one behind the others finds where a field is missing.
-    fields = text.split(" ") + [""]
+    return read_program_from(fields_and_end(text), 0, line)
+
+
+def fields_and_end(text):
+    """Return the fields of a line, and an empty one behind them.
+
+    An empty field never stands; so the last one is found wrong where a field is missing.
+    """
+    return text.split(" ") + [""]
+
+
+def read_program_from(fields, at, line):
+    """Return the program that all fields from this position on write; the last field is the empty one behind them."""
     nodes = []
-    at = 0
     missing = 1
     while missing > 0:
         node = read_node(fields, at, line)

@@ -1,6 +1,7 @@
 """The written form of programs."""
 
 from chosenlast.programs import nodes_of
+from chosenlast.tabletexts import joined
 
 
 def program_text(program):
@@ -14,11 +15,4 @@ def node_fields(node):
         return ["stop"]
     if node[0] == "say":
         return ["say", node[1]]
-    return ["ask", node[1], chosen_text(node[2])]
-
-
-def chosen_text(chosen):
-    """Return the written form of the chosen candidates."""
-    if not chosen:
-        return "-"
-    return ",".join(chosen)
+    return ["ask", node[1], joined(node[2])]

@@ -9,14 +9,18 @@ MOST_DIGITS = 60
 
 def read_table(text):
     """Return the table that the text writes; raise InvalidText for any other text."""
-    lines = text.split("\n")
-    items = read_items(lines[0])
+    return read_table_lines(text.split("\n"), 0)
+
+
+def read_table_lines(lines, first):
+    """Return the table that these lines, at least one, write; first is the index of the first one."""
+    items = read_items(lines[0], first)
     rows = []
     for k in range(1, len(lines)):
-        rows.append(read_table_row(items, rows, lines[k], k))
+        rows.append(read_table_row(items, rows, lines[k], first + k))
     if not have_two_candidates(items, rows):
         # What is missing is another line.
-        raise InvalidText(len(lines), 0)
+        raise InvalidText(first + len(lines), 0)
     return (items, tuple(rows))
 
 
@@ -28,16 +32,16 @@ def fields_of(line):
     return [word] + rest.split(",")
 
 
-def read_items(line):
-    """Return the items that line 0 writes."""
+def read_items(line, at):
+    """Return the items that the line with index at writes."""
     fields = fields_of(line)
     if fields[0] != "items":
-        raise InvalidText(0, 0)
+        raise InvalidText(at, 0)
     for k in range(1, len(fields)):
         if not is_name(fields[k]) or k > 1 and not fields[k - 1] < fields[k]:
-            raise InvalidText(0, k)
+            raise InvalidText(at, k)
     if len(fields) == 1:
-        raise InvalidText(0, 1)
+        raise InvalidText(at, 1)
     return tuple(fields[1:])
 
 

@@ -14,9 +14,14 @@ def line_text(word, names):
 
 def scope_text(scope):
     """Return the written form of the scope."""
-    if not scope:
+    return joined([item + ":" + candidate for item, candidate in scope])
+
+
+def joined(words):
+    """Return the words with commas between them, or - if there are none."""
+    if not words:
         return "-"
-    return ",".join([item + ":" + candidate for item, candidate in scope])
+    return ",".join(words)
 
 
 def coin_text(coin):

@@ -50,6 +50,11 @@ SIGNS = (
     ast.In, ast.NotIn)
 PARTS = (ast.expr_context, ast.comprehension, ast.keyword, ast.arguments, ast.arg)
 
+# The double-underscore methods that are used, with their parameters, and what all but the first one may call.
+DOUBLE = {"__init__": None, "__eq__": ["self", "other"], "__ne__": ["self", "other"], "__len__": ["self"],
+          "__str__": ["self"]}
+CALLED_IN_DOUBLE = {"len", "isinstance", "str", "join"}
+
 
 class File:
     """One file of the package: its text, its tree, and the faults found in it."""
@@ -229,7 +234,7 @@ def names_in(node):
 
 
 def check_identifier(file, node, name):
-    if name == "__init__" and isinstance(node, ast.FunctionDef):
+    if name in DOUBLE and isinstance(node, ast.FunctionDef):
         return
     if name in BARRED_NAMES or name.startswith(BARRED_BEGINNINGS) or name.startswith(("f_", "tb_", "co_")):
         file.fault("L12 L17", node, "a barred name: " + name)
@@ -264,12 +269,33 @@ def check_definition(file, node):
         file.fault("L4", node, "a default value that is not plain")
     if any(part.annotation for part in wanted.args + wanted.kwonlyargs):
         file.fault("L21", node, "an annotation")
-    if node.name.startswith("__") and (node.name != "__init__" or not isinstance(parent, ast.ClassDef)):
+    if node.name.startswith("__") and (node.name not in DOUBLE or not isinstance(parent, ast.ClassDef)):
         file.fault("L5", node, "a double-underscore method")
+    elif node.name in DOUBLE and node.name != "__init__":
+        check_double(file, node)
     if node.name == "__init__" and any(isinstance(part, ast.Return) for part in ast.walk(node)):
         file.fault("L28", node, "__init__ with a return")
     if node.end_lineno - node.lineno >= 40:
         file.fault("L10", node, "more than 40 lines")
+
+
+def check_double(file, node):
+    """Such a method is one return that changes nothing; what may be returned is told by its name."""
+    rows = [row for row in node.body if getattr(row, "value", None) not in file.docstrings]
+    if len(rows) != 1 or not isinstance(rows[0], ast.Return) or not rows[0].value:
+        file.fault("L28", node, "more than a return")
+        return
+    if [part.arg for part in node.args.args] != DOUBLE[node.name] or node.args.kwonlyargs or node.args.defaults:
+        file.fault("L5", node, "other parameters")
+    called = [part.func for part in ast.walk(node) if isinstance(part, ast.Call)]
+    if any(getattr(func, "attr", getattr(func, "id", None)) not in CALLED_IN_DOUBLE for func in called):
+        file.fault("L5 L28", node, "a call that may change something")
+    func = getattr(rows[0].value, "func", None)
+    if node.name == "__len__" and not (isinstance(func, ast.Name) and func.id == "len"):
+        file.fault("L28", node, "__len__ that returns no len")
+    if node.name == "__str__" and not (isinstance(func, ast.Name) and func.id == "str" or isinstance(
+            func, ast.Attribute) and func.attr == "join" and isinstance(func.value, ast.Constant)):
+        file.fault("L28", node, "__str__ that returns no str and no join")
 
 
 def check_class(file, node):
@@ -289,24 +315,51 @@ def check_class(file, node):
 def check_statement(file, node):
     if isinstance(node, ast.Expr) and not isinstance(node.value, ast.Call) and node.value not in file.docstrings:
         file.fault("L6", node, "an expression on its own")
-    if isinstance(node, ast.Raise):
+    if isinstance(node, ast.Raise) and (node.exc or enclosing(file, node, ast.ExceptHandler) is None):
         made = node.exc
         if node.cause or not isinstance(made, ast.Call) or not isinstance(made.func, ast.Name):
             file.fault("L19", node, "an error that is not created on the spot")
         elif made.func.id not in file.own:
             file.fault("L19", node, "an error that is not an own one")
-    if isinstance(node, ast.Try) and (node.finalbody or node.orelse):
-        file.fault("L6", node, "a try with more than handlers")
+    if isinstance(node, ast.Try) and (node.orelse or not all(map(is_counting, node.finalbody))):
+        file.fault("L6", node, "a try with more than handlers and counting in the end")
     if isinstance(node, ast.ExceptHandler):
-        if node.name or not isinstance(node.type, ast.Name) or node.type.id not in file.own:
-            file.fault("L19", node, "a handler of something else than an own error, or one that names it")
-    if isinstance(node, ast.AugAssign) and not isinstance(node.target, ast.Name):
-        file.fault("L6", node, "an augmented assignment to no plain name")
+        check_handler(file, node)
+    if isinstance(node, ast.AugAssign) and not isinstance(node.target, ast.Name) and not is_of_name(node.target):
+        file.fault("L6", node, "an augmented assignment to no plain name and no attribute of one")
     if isinstance(node, ast.For):
         changed = changed_names(node.body)
         for name in [part.id for part in ast.walk(node.iter) if isinstance(part, ast.Name)]:
             if name in changed and not is_only_measured(file, node.iter, name):
                 file.fault("L23", node, "a loop changes what it goes over: " + name)
+
+
+def is_counting(node):
+    """Whether it adds a literal number to an attribute of self."""
+    return (isinstance(node, ast.AugAssign) and isinstance(node.op, ast.Add) and is_of_name(node.target)
+            and node.target.value.id == "self" and isinstance(node.value, ast.Constant)
+            and type(node.value.value) is int)
+
+
+def is_of_name(node):
+    """Whether it is an attribute of a name."""
+    return isinstance(node, ast.Attribute) and isinstance(node.value, ast.Name)
+
+
+def check_handler(file, node):
+    if not isinstance(node.type, ast.Name) or node.type.id not in file.own:
+        file.fault("L19", node, "a handler of something else than an own error")
+    function = enclosing(file, node, ast.FunctionDef)
+    others = {part.id for part in ast.walk(function) if isinstance(part, ast.Name) and isinstance(part.ctx, ast.Store)}
+    others |= {part.arg for part in ast.walk(function) if isinstance(part, ast.arg)}
+    others |= {part.name for part in ast.walk(function) if isinstance(part, ast.ExceptHandler) and part is not node}
+    if node.name is not None and node.name in others | set(file.own) | BUILTINS:
+        file.fault("L19", node, "the name of the error means something else, too")
+    inside = list(ast.walk(node))
+    for part in ast.walk(function):
+        if isinstance(part, ast.Name) and part.id == node.name:
+            if part not in inside or not isinstance(file.parents[part], ast.Attribute):
+                file.fault("L19", part, "an error of which more than an attribute is read")
 
 
 def changed_names(rows):
@@ -420,6 +473,7 @@ def is_second_of_isinstance(file, node, parent):
 
 def locals_of(function):
     names = {part.arg for part in ast.walk(function) if isinstance(part, ast.arg)}
+    names |= {part.name for part in ast.walk(function) if isinstance(part, ast.ExceptHandler)}
     return names | {part.id for part in ast.walk(function)
                     if isinstance(part, ast.Name) and isinstance(part.ctx, ast.Store)}
 
@@ -433,8 +487,9 @@ def check_attribute(file, node):
 
 
 def check_star(file, node):
-    if not isinstance(file.parents[node], (ast.List, ast.Tuple)) or not isinstance(node.value, ast.Name):
-        file.fault("L7", node, "a star outside of a list or a tuple, or not over a name")
+    over = isinstance(node.value, ast.Name) or is_of_name(node.value)
+    if not isinstance(file.parents[node], (ast.List, ast.Tuple)) or not over:
+        file.fault("L7", node, "a star outside of a list or a tuple, or not over a name or an attribute of one")
 
 
 def check_compare(file, node):
@@ -455,5 +510,7 @@ def check_functions(file):
         if isinstance(node, ast.Name) and isinstance(node.ctx, ast.Load) and node.id in file.callables & set(file.own):
             parent = file.parents[node]
             called = isinstance(parent, ast.Call) and parent.func is node
+            if is_second_of_isinstance(file, node, parent):
+                continue
             if not called and not isinstance(parent, (ast.ClassDef, ast.keyword, ast.ExceptHandler)):
                 file.fault("L18", node, "a function or class that is not called: " + node.id)

@@ -25,9 +25,19 @@ BAD = (
     ("L4", "def f(a=[]):\n    return a\n"),
     ("L5", "class A:\n    def __hash__(self):\n        return 1\n"),
     ("L5", "class A:\n    B = 1\n"),
+    ("L5", "def __len__(self):\n    return len(self.a)\n"),
+    ("L5", "class A:\n    def __eq__(self, a):\n        return self.b == a.b\n"),
+    ("L28", "class A:\n    def __eq__(self, other):\n        self.a = 1\n        return self.a == other.a\n"),
+    ("L28", "class A:\n    def __eq__(self, other):\n        return self.f() == other.f()\n"),
+    ("L28", "class A:\n    def __len__(self):\n        return self.a\n"),
+    ("L28", "class A:\n    def __str__(self):\n        return self.a\n"),
     ("L19", "def f(a):\n    try:\n        return a[0]\n    except IndexError:\n        return 0\n"),
     ("L19", "def f(a):\n    try:\n        return a[0]\n    except:\n        return 0\n"),
     ("L6", "def f(a):\n    try:\n        return a[0]\n    finally:\n        a = 0\n"),
+    ("L6", "class A:\n    def f(self):\n        try:\n            return 1\n        finally:\n"
+           "            self.a += self.f()\n"),
+    ("L6", "def f(a):\n    try:\n        a = 1\n    finally:\n        return a\n"),
+    ("L6", "def f(a):\n    a[0].b += 1\n"),
     ("L6", "def f(a):\n    global B\n    B = a\n"),
     ("L6", "def f(a):\n    a == 1\n"),
     ("L7", "def f(a):\n    return a / 2\n"),
@@ -52,6 +62,13 @@ BAD = (
     ("L18", "from chosenlast.kinds import is_name\n\n\ndef f(a):\n    return [is_name]\n"),
     ("L19", "def f(a):\n    raise ValueError(a)\n"),
     ("L19", "def f(a):\n    raise a\n"),
+    ("L19", "def f(a):\n    raise\n"),
+    ("L19", "class E(ValueError):\n    pass\n\n\ndef f(a):\n    try:\n        f(a)\n    except E as e:\n"
+            "        return e\n"),
+    ("L19", "class E(ValueError):\n    pass\n\n\ndef f(a):\n    try:\n        f(a)\n    except E as e:\n"
+            "        e = a\n"),
+    ("L19", "class E(ValueError):\n    pass\n\n\ndef f(a):\n    try:\n        f(a)\n    except E as a:\n"
+            "        return 1\n"),
     ("L20", "def f(a):\n    return a is 'b'\n"),
     ("L21", "def f(a: int):\n    return a\n"),
     ("L22", "def f(a):\n    return sum(a, start=1)\n"),
