@@ -65,10 +65,8 @@ def row_answer(row, result):
         return str(result)
     if row[0] == "answer":
         return joined(result)
-    if row[0] == "arrive" and result:
-        return "yes"
     if row[0] == "arrive":
-        return "no"
+        return "yes" if result else "no"
     return "ok"
 
 

@@ -8,10 +8,12 @@ from chosenlast.tablereadings import is_number_text
 
 def read_request(text):
     """Return what the string asks for, a tuple that begins with a word, or None if it has none of the forms."""
-    for request in (opening_of(text), row_of(text), query_of(text)):
-        if request is not None:
-            return request
-    return None
+    request = opening_of(text)
+    if request is None:
+        request = row_of(text)
+    if request is None:
+        request = query_of(text)
+    return request
 
 
 def opening_of(text):
