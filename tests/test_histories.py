@@ -193,13 +193,13 @@ class HistoryTests(unittest.TestCase):
                 met.add(row[0])
                 self.agrees(world, model)
                 self.guarantees(world, model)
+                self.check_steps(world, model)
             else:
                 self.assertEqual(str(world), before)
             if draw.random() < 0.05 and model.rows:
                 self.assertIs(world.undo(), model.rows[-1])
                 model.undo()
                 self.agrees(world, model)
-        self.check_steps(world, model)
         self.agrees(replayed(world.log()), model)
         met |= {letter[0] + str(came) for letter, came in zip(model.letters, model.came)}
 
@@ -227,6 +227,7 @@ class HistoryTests(unittest.TestCase):
                     row = ("arrive", number)
                     self.assertTrue(same(done(world, row), expected(model, row)))
                 self.guarantees(world, model)
+                self.check_steps(world, model)
             if model.chosen is None:
                 self.assertEqual(world.bank_now()[1], ())
                 row = ("choose", draw.choice(reference.alive(model.table, model.reported)))
@@ -249,6 +250,7 @@ class HistoryTests(unittest.TestCase):
             for _ in range(25):
                 row = drawer.row(model, 0)
                 self.assertTrue(same(done(world, row), tuple(expected(model, row))))
+                self.guarantees(world, model)
             self.finish(world, model, draw)
 
     def test_at_the_limits(self):
